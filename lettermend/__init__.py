@@ -1,0 +1,1 @@
+"""Lettermend: a file store on many shelves that mends what burns with the fewest letters."""

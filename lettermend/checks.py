@@ -1,0 +1,103 @@
+"""What many files ask of arguments: whole numbers, tuples, primes, rows, tables and indexes of shelves."""
+
+from lettermend.errors import InvalidCount, InvalidNumber, InvalidShelf, InvalidShelves, InvalidTorn
+
+PRIMES = (11, 13, 17, 19, 23, 29, 31, 37, 41, 43, 47, 53, 59, 61, 67, 71, 73, 79, 83, 89, 97)
+
+
+def is_whole(value):
+    """Whether the value is a whole number: True and False are none."""
+    return isinstance(value, int) and not isinstance(value, bool)
+
+
+def is_within(value, least, most):
+    """Whether the value is a whole number from `least` up to `most`."""
+    return is_whole(value) and least <= value <= most
+
+
+def is_from(value, least):
+    """Whether the value is a whole number from `least` on."""
+    return is_whole(value) and value >= least
+
+
+def is_tuple_of(value, many):
+    """Whether the value is a tuple of so many elements, whatever they are."""
+    return isinstance(value, tuple) and len(value) == many
+
+
+def is_tuple_within(value, least, most):
+    """Whether the value is a tuple of `least` up to `most` elements, whatever they are."""
+    return isinstance(value, tuple) and least <= len(value) <= most
+
+
+def is_prime(value):
+    """Whether the value is one of the primes that are let."""
+    return is_whole(value) and value in PRIMES
+
+
+def is_number(prime, value):
+    """Whether the value is a number of the prime."""
+    return is_within(value, 0, prime - 1)
+
+
+def first_no_number(prime, values):
+    """The index of the first of the values that is no number of the prime; None."""
+    for index, value in enumerate(values):
+        if not is_number(prime, value):
+            return index
+    return None
+
+
+def is_row(prime, value, many):
+    """Whether the value is a row of so many numbers of the prime."""
+    return is_tuple_of(value, many) and first_no_number(prime, value) is None
+
+
+def first_no_row(prime, values, many):
+    """The index of the first of the values that is no row of so many numbers of the prime; None."""
+    for index, value in enumerate(values):
+        if not is_row(prime, value, many):
+            return index
+    return None
+
+
+def is_table(prime, value, many, length):
+    """Whether the value is a table of so many rows of `length` numbers of the prime."""
+    return is_tuple_of(value, many) and first_no_row(prime, value, length) is None
+
+
+def check_within(value, least, most):
+    """InvalidNumber for what is no whole number from `least` up to `most`."""
+    if not is_within(value, least, most):
+        raise InvalidNumber(value)
+
+
+def check_shelf(shelf, many):
+    """InvalidShelf for what is no index of one of so many shelves."""
+    if not is_within(shelf, 0, many - 1):
+        raise InvalidShelf(shelf)
+
+
+def first_no_shelf(shelves, many, barred):
+    """The index of the first one that is no index of one of so many shelves, `barred`, or not above the one ahead."""
+    ahead = -1
+    for index, shelf in enumerate(shelves):
+        if not is_within(shelf, ahead + 1, many - 1) or shelf == barred:
+            return index
+        ahead = shelf
+    return None
+
+
+def check_ascending(shelves, many, barred):
+    """InvalidShelves for the first element of a tuple that first_no_shelf tells."""
+    index = first_no_shelf(shelves, many, barred)
+    if index is not None:
+        raise InvalidShelves(index)
+
+
+def check_cut(count, torn):
+    """InvalidCount and InvalidTorn for what is no cut."""
+    if not is_from(count, 0):
+        raise InvalidCount(count)
+    if torn is not True and torn is not False:
+        raise InvalidTorn(torn)

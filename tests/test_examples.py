@@ -1,0 +1,51 @@
+"""Every example of the document's interface for the modules that have landed, word for word.
+
+sessions.txt holds them in the order of the document; names stay told from one to the next.
+"""
+
+import os
+import re
+import unittest
+
+from lettermend.errors import StoreError
+
+SESSIONS = os.path.join(os.path.dirname(os.path.abspath(__file__)), "sessions.txt")
+
+
+def pairs_of(text):
+    """The pairs of a line that is typed and of what is answered, "" for nothing."""
+    pairs = []
+    for line in text.splitlines():
+        if line.startswith(">>> "):
+            pairs.append([line[4:], ""])
+        elif line:
+            pairs[-1][1] += line
+    return pairs
+
+
+def answer_to(typed, names):
+    """What Python answers, an error as the document writes it."""
+    if re.match(r"from |[a-z_, ]+ = ", typed):
+        exec(typed, names)
+        return ""
+    try:
+        return repr(eval(typed, names))
+    except StoreError as error:
+        told = ", ".join(f"{name}={value!r}" for name, value in vars(error).items())
+        return f"raises {error.__class__.__name__}({told})"
+
+
+class Examples(unittest.TestCase):
+
+    def test_sessions(self):
+        with open(SESSIONS, encoding="ascii") as file:
+            pairs = pairs_of(file.read())
+        self.assertEqual(len(pairs), 11)
+        names = {}
+        for typed, answered in pairs:
+            with self.subTest(typed=typed):
+                self.assertEqual(answer_to(typed, names), answered)
+
+
+if __name__ == "__main__":
+    unittest.main()
