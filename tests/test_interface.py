@@ -11,6 +11,15 @@ INTERFACE = {
                 "line_of(scheme, shelf)", "short_line(scheme, shelf)"),
     "codes": ("table_of(scheme, message)", "pieces_of(scheme, message)", "read_from(scheme, shelves, pieces)",
               "letter(scheme, piece, lost)", "mended(scheme, lost, givers, letters)"),
+    "sure": ("read_sure(scheme, wrong, shelves, pieces)", "mend_sure(scheme, wrong, lost, givers, letters)"),
+    "bound": ("most_numbers(parts, helpers, room, letters)", "least_room(size, parts, helpers, letters)",
+              "least_letters(size, parts, helpers, room)"),
+    "told": ("is_told(value)", "does_read(told, lot)", "blind(told, lot)", "does_mend(told, lost, givers)",
+             "unmended(told, lost, givers)", "is_right(told, parts, helpers)", "told_of(scheme)"),
+    "disks": ("is_block(value)", "is_disk(value)", "fresh_disk(homes)", "written(disk, place, block)",
+              "torn_at(disk, place)", "run_writes(disk, writes, count, torn)"),
+    "journals": ("is_sound(value)", "is_quiet(value)", "contents(disk)", "batch_steps(disk, batch)",
+                 "disk_mending(disk)", "mended_disk(disk)"),
 }
 
 
