@@ -1,6 +1,7 @@
-"""What many files ask of arguments: whole numbers, tuples, primes, rows, tables and indexes of shelves."""
+"""What many files ask of arguments: whole numbers, tuples, words, cuts, rows, tables and indexes of shelves."""
 
-from lettermend.errors import InvalidCount, InvalidNumber, InvalidShelf, InvalidShelves, InvalidTorn
+from lettermend.clustererrors import InvalidNumbers
+from lettermend.errors import InvalidChunk, InvalidCount, InvalidNumber, InvalidShelf, InvalidShelves, InvalidTorn
 
 PRIMES = (11, 13, 17, 19, 23, 29, 31, 37, 41, 43, 47, 53, 59, 61, 67, 71, 73, 79, 83, 89, 97)
 
@@ -28,6 +29,31 @@ def is_tuple_of(value, many):
 def is_tuple_within(value, least, most):
     """Whether the value is a tuple of `least` up to `most` elements, whatever they are."""
     return isinstance(value, tuple) and least <= len(value) <= most
+
+
+def is_word(value, words):
+    """Whether the value is one of the words, a tuple of strings."""
+    return isinstance(value, str) and value in words
+
+
+def is_ascending(values, least):
+    """Whether the values are whole numbers from `least` on, each greater than the one before it."""
+    ahead = least - 1
+    for value in values:
+        if not is_from(value, ahead + 1):
+            return False
+        ahead = value
+    return True
+
+
+def is_torn(value):
+    """Whether the value tells if a write is torn: True or False."""
+    return value is True or value is False
+
+
+def is_cut(count, torn):
+    """Whether these are a cut."""
+    return is_from(count, 0) and is_torn(torn)
 
 
 def is_prime(value):
@@ -99,5 +125,20 @@ def check_cut(count, torn):
     """InvalidCount and InvalidTorn for what is no cut."""
     if not is_from(count, 0):
         raise InvalidCount(count)
-    if torn is not True and torn is not False:
+    if not is_torn(torn):
         raise InvalidTorn(torn)
+
+
+def check_chunk(chunk):
+    """InvalidChunk for what is no whole number from 1 on."""
+    if not is_from(chunk, 1):
+        raise InvalidChunk(chunk)
+
+
+def check_numbers(prime, numbers):
+    """InvalidNumbers for what is no tuple of at most 30000 numbers of the prime."""
+    if not is_tuple_within(numbers, 0, 30000):
+        raise InvalidNumbers(None)
+    index = first_no_number(prime, numbers)
+    if index is not None:
+        raise InvalidNumbers(index)

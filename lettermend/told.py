@@ -66,7 +66,8 @@ def letter_rows(told, lost, givers):
     prime, _, pieces, mixes = told
     rows = []
     for giver in givers:
-        columns = list(zip(*pieces[giver]))
+        table = pieces[giver]
+        columns = list(zip(*table))
         for mix in mixes[giver][lost]:
             rows.append(row_products(prime, columns, mix))
     return rows

@@ -47,6 +47,15 @@ def bound_in(tree):
     return names
 
 
+def is_plain(node):
+    """Whether this may stand behind a star of a call: a name, an attribute off a name, a literal, and rows of these."""
+    if isinstance(node, (ast.List, ast.Tuple)):
+        return all(map(is_plain, node.elts))
+    if isinstance(node, ast.Dict):
+        return all(map(is_plain, node.keys + node.values))
+    return isinstance(node, (ast.Name, ast.Constant)) or isinstance(node, ast.Attribute) and is_plain(node.value)
+
+
 class Language(unittest.TestCase):
 
     def test_only_files_of_the_package(self):
@@ -139,6 +148,20 @@ class Language(unittest.TestCase):
                     self.assertIn(node.func.attr, METHODS, name)
                 if isinstance(node, ast.ExceptHandler):
                     self.assertIsNotNone(node.type, name)
+
+    def test_calls_with_stars(self):
+        for name, _, tree in sources():
+            for node in ast.walk(tree):
+                if not isinstance(node, ast.Call):
+                    continue
+                stars = [one.value for one in node.args if isinstance(one, ast.Starred)]
+                doubled = [one.value for one in node.keywords if one.arg is None]
+                if stars or doubled:
+                    beside = [one for one in node.args if doubled and not isinstance(one, ast.Starred)]
+                    self.assertTrue(all(map(is_plain, stars + doubled + beside)), (name, node.lineno))
+        for text, plain in (("rows", True), ("box.rows", True), ("(a, [1])", True), ("rows[0]", False),
+                            ("f(a)", False), ("a + b", False), ("[row for row in rows]", False), ("f(a).b", False)):
+            self.assertIs(is_plain(ast.parse(text, mode="eval").body), plain)
 
 
 if __name__ == "__main__":
