@@ -28,9 +28,17 @@ class Shy:
     __getitem__ = __contains__ = __index__ = __int__ = refuse
 
 
+def nested(deep):
+    """A tuple around a tuple, so many of them, around 1."""
+    value = 1
+    for _ in range(deep):
+        value = (value,)
+    return value
+
+
 # Values of other kinds than are wanted: none of them is a whole number, and none a tuple that is let anywhere.
 ODD = (True, False, None, "", "11", "letters", b"1", [], [1], [[1]], {}, {1: 2}, {1}, frozenset(), object(),
-       Alike(), Shy(), len, (None,), (True,), ("1",), ([1],), ((((1,),),),), range(3))
+       Alike(), Shy(), len, (None,), (True,), ("1",), ([1],), ((((1,),),),), range(3), nested(40))
 
 
 class Told(unittest.TestCase):

@@ -20,6 +20,15 @@ INTERFACE = {
               "torn_at(disk, place)", "run_writes(disk, writes, count, torn)"),
     "journals": ("is_sound(value)", "is_quiet(value)", "contents(disk)", "batch_steps(disk, batch)",
                  "disk_mending(disk)", "mended_disk(disk)"),
+    "histories": ("after_history(disk, history)", "told_contents(told, history)"),
+    "shelves": ("is_root(value)", "is_shelf(value)", "shelf_meaning(disk)", "shelf_root(disk)", "held(disk)",
+                "piece_of(disk, chunk)", "home_of(disk, chunk)", "free_homes(disk)", "put_batch(disk, chunk, piece)",
+                "drop_batch(disk, chunk)", "root_batch(disk, root)"),
+    "shelfruns": ("shelf_batch(disk, deed)", "shelf_after(disk, history)", "shelf_told(meaning, homes, history)"),
+    "placement": ("score(chunk, shelf)", "order_of(chunk, used)", "placed(chunk, used, width)",
+                  "gone_and_come(chunk, used, other, width)", "load(used, width, shelf)"),
+    "trees": ("is_name(value)", "is_path(value)", "is_view(value)", "node_at(view, path)", "paths_of(view)",
+              "deepest(view)", "tree_deed(view, deed)"),
 }
 
 
