@@ -40,7 +40,7 @@ class Examples(unittest.TestCase):
     def test_sessions(self):
         with open(SESSIONS, encoding="ascii") as file:
             pairs = pairs_of(file.read())
-        self.assertEqual(len(pairs), 51)
+        self.assertEqual(len(pairs), 64)
         names = {}
         for typed, answered in pairs:
             with self.subTest(typed=typed):

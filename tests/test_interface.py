@@ -29,6 +29,16 @@ INTERFACE = {
                   "gone_and_come(chunk, used, other, width)", "load(used, width, shelf)"),
     "trees": ("is_name(value)", "is_path(value)", "is_view(value)", "node_at(view, path)", "paths_of(view)",
               "deepest(view)", "tree_deed(view, deed)"),
+    "packing": ("packed_whole(number)", "unpacked_whole(numbers)", "packed_name(name)", "unpacked_name(numbers)",
+                "is_meta(value)", "packed(meta)", "unpacked(numbers)"),
+    "files": ("many_chunks(scheme, length)", "cut_up(scheme, numbers)", "put_together(scheme, length, messages)"),
+    "meanings": ("is_meaning(value)", "is_request(value)", "mark_of(meaning, client)",
+                 "answer(meaning, width, request)", "answers(meaning, width, requests)"),
+    "clusters": ("is_cluster(value)", "new_cluster(scheme, width, used, homes)", "standing(cluster)",
+                 "contents_of(cluster)", "done_steps(cluster, steps)", "cut_steps(cluster, steps, count, torn)"),
+    "reading": ("root_of(cluster)", "holders(cluster, chunk)", "right_holders(cluster, chunk)",
+                "chunk_message(cluster, chunk)", "piece_for(cluster, chunk, shelf)", "meta_of(cluster)",
+                "named(cluster)", "meaning(cluster)"),
 }
 
 

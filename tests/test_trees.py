@@ -265,7 +265,8 @@ class Deeds(Told):
                  (full, ("put", ("a", name), (1,)), "done"), (wide(39), ("put", ("x",), ()), "done"),
                  (SMALL, ("copy", ("x",), ("x",)), "no such"), (SMALL, ("copy", ("x",), ("x", "y")), "no such"),
                  (SMALL, ("copy", ("a",), ("a",)), "within"), (SMALL, ("copy", ("a",), ("a", "x")), "within"),
-                 (SMALL, ("copy", ("a",), ("a", "x", "y")), "within"), (SMALL, ("copy", ("ab",), ("ab", "c")), "within"),
+                 (SMALL, ("copy", ("a",), ("a", "x", "y")), "within"),
+                 (SMALL, ("copy", ("ab",), ("ab", "c")), "within"),
                  (SMALL, ("copy", ("ab",), ("x", "c")), "no room"), (SMALL, ("copy", ("b",), ("ab", "c")), "no room"),
                  (SMALL, ("copy", ("a",), ("ab",)), "taken"), (full, ("copy", ("a", name), ("a",)), "taken"),
                  (full, ("copy", ("a", name), ("x",)), "too many"), (full, ("copy", ("x",), ("y",)), "no such"),
@@ -353,7 +354,8 @@ class Deeds(Told):
             wrong += [(value, ("a",)), (value, ("a",), ()), (value, ("a",), ("b",)), ("make", value), ("remove", value),
                       ("put", value, ()), ("put", ("a",), value), ("copy", value, ("a",)), ("copy", ("a",), value),
                       ("move", value, ("a",)), ("move", ("a",), value)]
-        wrong += [("put", ("a",), numbers) for numbers in ((-1,), (97,), (0,) * 61, [1], (1, True), (1, "1"), (0,) * 4000,
+        wrong += [("put", ("a",), numbers) for numbers in ((-1,), (97,), (0,) * 61, [1], (1, True), (1, "1"),
+                                                           (0,) * 4000,
                                                            (10 ** 30,), (1, None))]
         for deed in wrong:
             self.given(InvalidDeed, deed, tree_deed, SMALL, deed)
