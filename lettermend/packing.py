@@ -7,7 +7,7 @@ from lettermend.placement import is_lot
 from lettermend.trees import LETTERS, is_name, is_tree
 
 OUTCOMES = ("done", "no room", "taken", "no such", "within", "too deep", "too many", "too few", "used", "unused")
-MOST = 10 ** 9
+MOST = 1000000000
 
 
 class Reader:

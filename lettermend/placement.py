@@ -11,7 +11,8 @@ def score_on(chunk, shelf):
 
 def ordered(chunk, used):
     """The shelves in the order of the chunk."""
-    return tuple([shelf for _, shelf in sorted([(score_on(chunk, shelf), shelf) for shelf in used])])
+    scores = sorted([(score_on(chunk, shelf), shelf) for shelf in used])
+    return tuple([pair[1] for pair in scores])
 
 
 def placed_among(chunk, used, width):

@@ -72,7 +72,7 @@ def is_tree_deed(value):
 def after_deed(view, deed):
     """The pair of a tree deed's outcome and the view that it leaves."""
     outcome = outcome_of(view, deed)
-    return outcome, left_by(view, deed) if outcome == "done" else view
+    return outcome, (left_by(view, deed) if outcome == "done" else view)
 
 
 def check_view(view):

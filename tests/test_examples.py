@@ -1,4 +1,4 @@
-"""Every example of the document's interface for the modules that have landed, word for word.
+"""Every example of the document's interface for the modules that have landed, word for word, and those of README.md.
 
 sessions.txt holds them in the order of the document; names stay told from one to the next.
 """
@@ -9,7 +9,8 @@ import unittest
 
 from lettermend.errors import StoreError
 
-SESSIONS = os.path.join(os.path.dirname(os.path.abspath(__file__)), "sessions.txt")
+HERE = os.path.dirname(os.path.abspath(__file__))
+SESSIONS, README = os.path.join(HERE, "sessions.txt"), os.path.join(os.path.dirname(HERE), "README.md")
 
 
 def pairs_of(text):
@@ -37,14 +38,24 @@ def answer_to(typed, names):
 
 class Examples(unittest.TestCase):
 
+    def setUp(self):
+        self.names = {}
+
     def test_sessions(self):
         with open(SESSIONS, encoding="ascii") as file:
             pairs = pairs_of(file.read())
         self.assertEqual(len(pairs), 64)
-        names = {}
         for typed, answered in pairs:
             with self.subTest(typed=typed):
-                self.assertEqual(answer_to(typed, names), answered)
+                self.assertEqual(answer_to(typed, self.names), answered)
+
+    def test_readme(self):
+        with open(README, encoding="ascii") as file:
+            blocks = re.findall(r"```\n(>>> .*?)```", file.read(), re.S)
+        self.assertEqual(len(blocks), 2)
+        for typed, answered in pairs_of("".join(blocks)):
+            with self.subTest(typed=typed):
+                self.assertEqual(answer_to(re.sub(" +# .*", "", typed), self.names), answered)
 
 
 if __name__ == "__main__":
