@@ -74,6 +74,18 @@ def contents_told(cluster):
     return tuple([None if disk is None else meant(disk) for disk in cluster[2]])
 
 
+def homes_in(cluster):
+    """How many homes each standing shelf has; 1 if none stands."""
+    disks = [disk for disk in cluster[2] if disk is not None]
+    return len(disks[0]) - 10 if disks else 1
+
+
+def with_shelf(cluster, shelf, disk):
+    """The cluster with this disk, or None, in the place of the shelf."""
+    scheme, width, shelves = cluster
+    return scheme, width, (*shelves[:shelf], disk, *shelves[shelf + 1:])
+
+
 def after_steps(cluster, steps, count, torn):
     """The cluster after the steps, run to the cut."""
     shelves = [None if disk is None else list(disk) for disk in cluster[2]]

@@ -81,11 +81,16 @@ def check_view(view):
         raise InvalidView(view)
 
 
+def check_path(path):
+    """InvalidPath for what is neither a path nor ()."""
+    if not is_path(path) and not is_tuple_of(path, 0):
+        raise InvalidPath(path)
+
+
 def node_at(view, path):
     """The node that stands at the path, the whole view as a room for (); None."""
     check_view(view)
-    if not is_path(path) and not is_tuple_of(path, 0):
-        raise InvalidPath(path)
+    check_path(path)
     return node_in(view, path)
 
 
