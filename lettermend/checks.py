@@ -36,6 +36,17 @@ def is_word(value, words):
     return isinstance(value, str) and value in words
 
 
+def is_same(value, told):
+    """Whether the value is just what is told, of tuples, texts, whole numbers and None: nothing else is taken for it."""
+    if isinstance(told, tuple):
+        return is_tuple_of(value, len(told)) and all([is_same(one, other) for one, other in zip(value, told)])
+    if isinstance(told, str):
+        return is_word(value, (told,))
+    if told is None:
+        return value is None
+    return is_whole(value) and value == told
+
+
 def is_ascending(values, least):
     """Whether the values are whole numbers from `least` on, each greater than the one before it."""
     ahead = least - 1

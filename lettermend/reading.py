@@ -1,10 +1,10 @@
 """What lies in a cluster: its root, its chunks and their messages, META, and what all of it means."""
 
 from lettermend.checks import check_chunk, check_shelf
-from lettermend.clustererrors import Lost
 from lettermend.clusters import check_cluster, contents_told
 from lettermend.coding import lines_for, pieces_on
-from lettermend.sights import chunks_named, greatest_root, message_and_wrong, meta_lying, pieces_lying, seen
+from lettermend.sights import chunks_named, greatest_root, message_and_wrong, meta_lying, pieces_lying
+from lettermend.sights import seen_or_none
 
 
 def root_of(cluster):
@@ -66,8 +66,5 @@ def named(cluster):
 def meaning(cluster):
     """What the cluster means, (VERSION, USED, MARKS, VIEW); None if META or a file's chunk is not told."""
     check_cluster(cluster)
-    try:
-        sight = seen(cluster)
-    except Lost:
-        return None
-    return sight.meaning()
+    sight = seen_or_none(cluster)
+    return None if sight is None else sight.meaning()

@@ -1,12 +1,12 @@
 """Runs: what comes of a mended cluster by requests, cuts and harm, and whether no more was hurt than is borne."""
 
 from lettermend.checks import first_no_shelf, is_cut, is_from, is_tuple_of, is_tuple_within, is_within
-from lettermend.clustererrors import InvalidEvent, InvalidEvents, InvalidRun, Lost
+from lettermend.clustererrors import InvalidEvent, InvalidEvents, InvalidRun
 from lettermend.clusters import check_cluster, is_cluster
 from lettermend.harm import after_burning, after_renewing, after_rot, is_piece_of
 from lettermend.mending import after_mending_cut, after_mending_whole, seen_mended
 from lettermend.requests import after_request, is_request_to
-from lettermend.sights import seen
+from lettermend.sights import seen_or_none
 
 
 def is_lot_of(cluster, value):
@@ -70,11 +70,8 @@ def reply_and_after(cluster, event):
 
 def used_in(cluster):
     """The shelves in use, () if the cluster is not readable."""
-    try:
-        sight = seen(cluster)
-    except Lost:
-        return ()
-    return sight.meta[1]
+    sight = seen_or_none(cluster)
+    return () if sight is None else sight.meta[1]
 
 
 def new_ledger(cluster):

@@ -168,3 +168,12 @@ def seen(cluster):
         if found[chunk] is None:
             raise Lost(chunk)
     return Sight(cluster, told, meta, {chunk: found[chunk] for chunk in chunks})
+
+
+def seen_or_none(cluster):
+    """The sight of the cluster; None if it is not readable."""
+    try:
+        sight = seen(cluster)
+    except Lost:
+        return None
+    return sight

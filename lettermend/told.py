@@ -95,6 +95,14 @@ def all_mend(told, lost, helpers):
     return all([hidden(told, lost, [others[at] for at in lot]) is None for lot in lots])
 
 
+def all_right(told, parts, helpers):
+    """Whether any `parts` shelves read and any `helpers` others mend each one."""
+    many = len(told[2])
+    if not all([reads(told, lot) for lot in lots_of(many, parts)]):
+        return False
+    return all([all_mend(told, lost, helpers) for lost in range(many)])
+
+
 def does_read(told, lot):
     """Whether no message but noughts has noughts as all of its pieces in this lot."""
     check_told(told)
@@ -132,9 +140,7 @@ def is_right(told, parts, helpers):
     many = len(told[2])
     check_within(parts, 1, many)
     check_within(helpers, 1, many - 1)
-    if not all([reads(told, lot) for lot in lots_of(many, parts)]):
-        return False
-    return all([all_mend(told, lost, helpers) for lost in range(many)])
+    return all_right(told, parts, helpers)
 
 
 def told_of(scheme):
