@@ -37,7 +37,7 @@ def is_word(value, words):
 
 
 def is_same(value, told):
-    """Whether the value is just what is told, of tuples, texts, whole numbers and None: nothing else is taken for it."""
+    """Whether the value is just what is told, of tuples, texts, whole numbers and None; nothing like it is let."""
     if isinstance(told, tuple):
         return is_tuple_of(value, len(told)) and all([is_same(one, other) for one, other in zip(value, told)])
     if isinstance(told, str):

@@ -63,6 +63,13 @@ class Told(unittest.TestCase):
         """The call raises this error with the value that was passed as `given`."""
         self.tells(error, ("given", value), function, *arguments, **named)
 
+    def like(self, error, value, function, /, *arguments, **named):
+        """The call raises this error with `given` equal to the value, and as it is written."""
+        with self.assertRaises(StoreError) as caught:
+            function(*arguments, **named)
+        self.assertIs(caught.exception.__class__, error)
+        self.assertEqual(repr(vars(caught.exception)), repr({"given": value}))
+
     def index(self, error, value, function, /, *arguments, **named):
         """The call raises this error with this index, or None."""
         self.tells(error, ("index", value), function, *arguments, **named)
