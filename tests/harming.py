@@ -1,16 +1,16 @@
 """Clusters that came to harm, always the same ones: for the tests of surveys, mending, requests and what follows."""
 
-from lettermend.clusters import cut_steps, done_steps, new_cluster, standing
+from lettermend.clusters import cut_steps, done_steps, is_cluster, new_cluster, standing
 from lettermend.codes import pieces_of
 from lettermend.disks import fresh_disk
 from lettermend.journals import batch_steps
 from lettermend.reading import chunk_message, holders, meaning, meta_of, named, root_of
 from lettermend.schemes import room_of
-from lettermend.shelves import free_homes, home_of
+from lettermend.shelves import free_homes, held, home_of
 from tests.making import FOUR, ONES, ROOMY, SIX, TIGHT, WIDEST, rotten, under_way, with_block, with_disk, without_chunk
 from tests.slow import slow_mending, slow_request
 from tests.support import rows_like
-from tests.test_reading import changes, with_files
+from tests.test_reading import FILES, changes, with_files
 
 
 class Dice:
@@ -164,3 +164,35 @@ def readable(clusters):
 def used_of(cluster):
     """The shelves in use."""
     return meta_of(cluster)[1]
+
+
+def squeezed(cluster, homes):
+    """The cluster with other homes, what lies in them as low as there are; None if there are too few."""
+    disks = []
+    for disk in cluster[2]:
+        if disk is not None:
+            blocks = tuple(block for block in disk[10:] if block)
+            if len(blocks) > homes:
+                return None
+            disk = disk[:10] + blocks + ((),) * (homes - len(blocks))
+        disks.append(disk)
+    return cluster[:2] + (tuple(disks),)
+
+
+def files_in(homes):
+    """The cluster with files whose shelves have so many homes."""
+    found = squeezed(FILES, homes)
+    assert is_cluster(found) and meaning(found) == meaning(FILES)
+    return found
+
+
+def full_one():
+    """A readable cluster whose mending tells Full, and the chunk that it tells."""
+    cluster = files_in(20)
+    gone = held(cluster[2][0])[1:6]
+    away = [chunk for chunk in named(cluster) if 0 not in holders(cluster, chunk)]
+    for chunk in gone:
+        cluster = without_chunk(cluster, 0, chunk)
+    for chunk in away:
+        cluster = stray(cluster, 0, chunk)
+    return cluster, gone[4]

@@ -1,4 +1,4 @@
-"""Every example of the document's interface for the modules that have landed, word for word, and those of README.md.
+"""Every example of the document's interface, word for word, and those of README.md.
 
 sessions.txt holds them in the order of the document; names stay told from one to the next.
 """
@@ -44,7 +44,7 @@ class Examples(unittest.TestCase):
     def test_sessions(self):
         with open(SESSIONS, encoding="ascii") as file:
             pairs = pairs_of(file.read())
-        self.assertEqual(len(pairs), 64)
+        self.assertEqual(len(pairs), 109)
         for typed, answered in pairs:
             with self.subTest(typed=typed):
                 self.assertEqual(answer_to(typed, self.names), answered)

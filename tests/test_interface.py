@@ -39,6 +39,22 @@ INTERFACE = {
     "reading": ("root_of(cluster)", "holders(cluster, chunk)", "right_holders(cluster, chunk)",
                 "chunk_message(cluster, chunk)", "piece_for(cluster, chunk, shelf)", "meta_of(cluster)",
                 "named(cluster)", "meaning(cluster)"),
+    "harm": ("burnt(cluster, shelf)", "renewed(cluster, shelf)", "rotten(cluster, shelf, chunk, piece)"),
+    "surveys": ("survey(cluster)", "spare(cluster)", "losing_lot(cluster)"),
+    "mending": ("phases_of(cluster)", "steps_to_mend(cluster)", "is_mended(cluster)", "mended_cluster(cluster)",
+                "givers_of(cluster)", "numbers_sent(cluster)"),
+    "requests": ("request_steps(cluster, request)", "decided_from(cluster, request)", "read(cluster, path)"),
+    "runs": ("begin(cluster)", "after_event(run, event)", "after_events(run, events)", "is_held(run)"),
+    "wishes": ("is_wish(value)", "is_client(value)", "is_letter(value)", "waits_at(client)", "seq_at(client, at)",
+               "takes(client, letter, name)"),
+    "post": ("new_post(cluster, scripts)", "is_post(value)", "after_event(post, event)", "after_events(post, events)",
+             "settled(post)", "answers_of(post)"),
+    "records": ("record(post, events)",),
+    "console": ("answer_line(state, line)", "talk(lines)"),
+    "checker": ("accepts(claim, paper)",),
+    "certificates": ("certify_reading(told, lot)", "certify_mending(told, lost, givers)", "certify_meaning(cluster)",
+                     "certify_mended(cluster)", "certify_reply(cluster, request)",
+                     "certify_order(cluster, scripts, events)"),
 }
 
 

@@ -10,7 +10,7 @@ from lettermend.placement import placed
 from lettermend.reading import holders, meaning, meta_of, named, piece_for, right_holders, root_of
 from lettermend.schemes import room_of
 from lettermend.shelves import free_homes, held, piece_of, shelf_root
-from tests.harming import (Dice, burn, cut_batch, harmed, hide_root, large_bases, lesser_root, litter, quiet, readable,
+from tests.harming import (Dice, burn, cut_batch, files_in, full_one, harmed, hide_root, large_bases, lesser_root, litter, quiet, readable,
                            renew, small_bases, stray, used_of)
 from tests.making import FOUR, ONES, SIX, TIGHT, rotten, under_way, with_block, with_disk, with_meta, without_chunk
 from tests.slow import slow_lost, slow_mending, slow_sent, slow_survey
@@ -281,30 +281,12 @@ class Ends(Told):
         self.assertIs(is_mended(mended_cluster(without_chunk(cluster, 0, away[0]))), True)
 
     def test_lost_ahead_of_full(self):
-        cluster = files_in(20)
-        gone = held(cluster[2][0])[1:6]
-        away = [chunk for chunk in named(cluster) if 0 not in holders(cluster, chunk)]
-        for chunk in gone:
-            cluster = without_chunk(cluster, 0, chunk)
-        for chunk in away:
-            cluster = stray(cluster, 0, chunk)
-        self.full(cluster, gone[4])
+        cluster, chunk = full_one()
+        self.full(cluster, chunk)
         for shelf in holders(cluster, 40)[:3]:
             cluster = without_chunk(cluster, shelf, 40)
         for function in ASKED:
             self.like(Lost, 40, function, cluster)
-
-
-def files_in(homes):
-    """The cluster with files whose shelves have so many homes, with what lies there as low as there are homes."""
-    cluster = FILES
-    shelves = []
-    for disk in cluster[2]:
-        blocks = [block for block in disk[10:] if block]
-        shelves.append(disk[:10] + tuple(blocks) + ((),) * (homes - len(blocks)))
-    found = cluster[:2] + (tuple(shelves),)
-    assert is_cluster(found) and meaning(found) == meaning(cluster)
-    return found
 
 
 class Givers(Told):

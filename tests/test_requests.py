@@ -14,12 +14,12 @@ from lettermend.reading import holders, meaning, meta_of, named, right_holders, 
 from lettermend.requests import decided_from, read, request_steps
 from lettermend.shelves import held, home_of
 from lettermend.trees import node_at, paths_of
-from tests.harming import burn, harmed, hide_root, litter, renew, slow_mended, small_bases, stray
+from tests.harming import (burn, full_one, harmed, hide_root, litter, renew, slow_mended, small_bases, squeezed,
+                           stray)
 from tests.making import FOUR, ONES, ROOMY, SIX, TIGHT, WIDEST, rotten, under_way, with_block, with_disk, with_meta
 from tests.slow import same_contents, slow_lost, slow_mending, slow_request
 from tests.support import ODD, Told, rows_like
 from tests.test_clusters import BURNT, NEW, NO_CLUSTERS
-from tests.test_mending import files_in
 from tests.test_reading import ALL, FILES
 from tests.test_trees import EMPTY
 
@@ -327,19 +327,6 @@ class Replies(Told):
         self.assertEqual(len(named(taken)), len(root_of(taken)) - 2 + 1)
 
 
-def squeezed(cluster, homes):
-    """The cluster with fewer homes, what lies in them as low as there are; None if there are too few."""
-    disks = []
-    for disk in cluster[2]:
-        if disk is not None:
-            blocks = tuple(block for block in disk[10:] if block)
-            if len(blocks) > homes:
-                return None
-            disk = disk[:10] + blocks + ((),) * (homes - len(blocks))
-        disks.append(disk)
-    return cluster[:2] + (tuple(disks),)
-
-
 class Cuts(Told):
 
     def every_cut(self, cluster, request, every=1):
@@ -531,12 +518,7 @@ class Wrong(Told):
                              ("path", ("a",), ("A",), InvalidPath, "given")))
 
     def test_lost_full_and_not_mended(self):
-        full = files_in(20)
-        for chunk in held(full[2][0])[1:6]:
-            full = with_block(full, 0, home_of(full[2][0], chunk), ())
-        for chunk in named(full):
-            if 0 not in holders(FILES, chunk):
-                full = stray(full, 0, chunk)
+        full = full_one()[0]
         seen = set()
         for cluster in [full, with_block(full, 2, 0, None), hide_root(full, 1, ()), BURNT, burn(NEW, 0, 1),
                         litter(NEW, 2, 1), hide_root(NEW, 3, ()), rotten(NEW, 1, 1, (1, 0, 0)),
