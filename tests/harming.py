@@ -3,14 +3,21 @@
 from lettermend.clusters import cut_steps, done_steps, is_cluster, new_cluster, standing
 from lettermend.codes import pieces_of
 from lettermend.disks import fresh_disk
+from lettermend.files import cut_up
 from lettermend.journals import batch_steps
+from lettermend.packing import packed
+from lettermend.placement import placed
 from lettermend.reading import chunk_message, holders, meaning, meta_of, named, root_of
 from lettermend.schemes import room_of
 from lettermend.shelves import free_homes, held, home_of
-from tests.making import FOUR, ONES, ROOMY, SIX, TIGHT, WIDEST, rotten, under_way, with_block, with_disk, without_chunk
+from tests.making import (FOUR, ONES, ROOMY, SIX, TIGHT, WIDEST, rotten, under_way, with_block, with_disk, with_meta,
+                          without_chunk)
 from tests.slow import slow_mending, slow_request
 from tests.support import rows_like
 from tests.test_reading import FILES, changes, with_files
+
+
+FAR = (31, "letters", 10, 3, 3)
 
 
 class Dice:
@@ -196,3 +203,16 @@ def full_one():
     for chunk in away:
         cluster = stray(cluster, 0, chunk)
     return cluster, gone[4]
+
+
+def narrow_one():
+    """A mended cluster of which shelf 9, in use, is burnt and has too few homes, and the first chunk without a home."""
+    used = tuple(range(10))
+    likely = [chunk for chunk in range(1, 300) if 9 in placed(chunk, used, 4)]
+    tree = (("a", ("file", 60, tuple(likely[:10]))),)
+    many = len(cut_up(FAR, packed((used, (), tree))))
+    own = tuple(likely[10:10 + many])
+    cluster = with_meta(FAR, 4, 60, 3, (used, (), tree), own, tuple((chunk, (chunk % 31,) * 6) for chunk in likely[:10]))
+    homes = max(len(held(disk)) for disk in cluster[2][:9])
+    assert homes < len(held(cluster[2][9]))
+    return squeezed(burn(cluster, 9), homes), held(cluster[2][9])[homes]

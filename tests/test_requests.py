@@ -14,7 +14,7 @@ from lettermend.reading import holders, meaning, meta_of, named, right_holders, 
 from lettermend.requests import decided_from, read, request_steps
 from lettermend.shelves import held, home_of
 from lettermend.trees import node_at, paths_of
-from tests.harming import (burn, full_one, harmed, hide_root, litter, renew, slow_mended, small_bases, squeezed,
+from tests.harming import (FAR, burn, full_one, harmed, hide_root, litter, renew, slow_mended, small_bases, squeezed,
                            stray)
 from tests.making import FOUR, ONES, ROOMY, SIX, TIGHT, WIDEST, rotten, under_way, with_block, with_disk, with_meta
 from tests.slow import same_contents, slow_lost, slow_mending, slow_request
@@ -24,7 +24,6 @@ from tests.test_reading import ALL, FILES
 from tests.test_trees import EMPTY
 
 MOST = 10 ** 9
-FAR = (31, "letters", 10, 3, 3)
 MAKE = (0, 1, ("make", ("x",)))
 WIDE = new_cluster(SIX, 5, (0, 1, 2, 3, 4), 30)
 
