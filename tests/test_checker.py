@@ -198,7 +198,7 @@ class Accepts(Told):
         for claim, paper in CLAIMS:
             for other in papers:
                 self.same(claim, other)
-            for path in list(places(paper))[:30]:
+            for path in list(places(paper))[:14]:
                 for other in bends(at_place(paper, path)):
                     self.same(claim, with_place(paper, path, other))
 
@@ -208,12 +208,12 @@ class Accepts(Told):
             if claim[0] in ("answers", "order"):
                 continue
             paths = list(places(claim))
-            step = max(1, len(paths) // 20)
+            step = max(1, len(paths) // 12)
             near = [path for path in paths if len(path) < 3]
             for path in near + paths[::step]:
                 for other in bends(at_place(claim, path)):
                     accepted += self.same(with_place(claim, path, other), paper)
-        self.assertGreater(accepted, 50)
+        self.assertGreater(accepted, 30)
 
     def test_posts_that_are_bent(self):
         for claim, paper in CLAIMS:

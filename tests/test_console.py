@@ -358,10 +358,10 @@ class Talks(Told):
 
     def test_reads_against_a_plain_store(self):
         told = 0
-        for seed in range(12):
+        for seed in range(7):
             told += self.follow(seed, False)
             told += self.follow(seed + 50, True)
-        self.assertGreater(told, 200)
+        self.assertGreater(told, 100)
 
 
 def event_of(line, state):

@@ -114,9 +114,9 @@ class Records(Told):
         for at, (cluster, scripts) in enumerate(((SMALL, SCRIPTS), (WIDE, SCRIPTS[:2]), (LARGE, SCRIPTS),
                                                  (TIGHTER, SCRIPTS[1:]),
                                                  (WIDE, ((PUT_A, PUT_B, READ_A) * 4, (READ_A, DROP_A, READ_B) * 4)))):
-            for seed in range(8):
+            for seed in range(6):
                 start = new_post(cluster, scripts)
-                events = events_for(Dice(900 * at + seed), 70, len(scripts), len(cluster[2]))
+                events = events_for(Dice(900 * at + seed), 60, len(scripts), len(cluster[2]))
                 found = self.same(start, events)
                 behind = after_events(start, events)
                 plain_store(self, start, behind, found)
@@ -125,8 +125,8 @@ class Records(Told):
                 self.counts(start, behind, found)
                 end = settled(behind)
                 self.assertEqual([waits_at(client) for client in end[1]], [None] * len(scripts))
-        self.assertGreater(rows, 120)
-        self.assertGreater(cuts, 5)
+        self.assertGreater(rows, 70)
+        self.assertGreater(cuts, 3)
 
     def counts(self, start, behind, rows):
         """Each deed counts at most once, one that is answered just once, and the deeds of each client in order."""

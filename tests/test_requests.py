@@ -268,7 +268,7 @@ class Replies(Told):
 
     def test_full_by_a_long_meta(self):
         seen = set()
-        for many, letters in itertools.product((26, 27), (1, 3, 4, 5, 6, 8)):
+        for many, letters in itertools.product((26, 27), (1, 4, 5, 6)):
             used = tuple(range(10))
             names = tuple(("y" * 6 + "abc"[at // 26] + "abcdefghijklmnopqrstuvwxyz"[at % 26], EMPTY)
                           for at in range(many))
@@ -357,15 +357,15 @@ class Cuts(Told):
     def test_tree_deeds(self):
         for deed in (("make", ("x",)), ("put", ("a", "b"), tuple(range(14))), ("copy", ("a",), ("x",)),
                      ("remove", ("a",)), ("remove", ("q",))):
-            self.every_cut(ROOMS, (0, 5, deed), 7)
+            self.every_cut(ROOMS, (0, 5, deed), 13)
         self.every_cut(NEW_TWENTY, (0, 1, ("put", ("a",), (9,))))
 
     def test_joins_and_leaves(self):
         base = after(new_cluster(SIX, 4, (0, 1, 2, 3, 5), 30), ("put", ("a",), tuple(range(20))))
         for deed in (("join", 4), ("leave", 1), ("leave", 5), ("join", 0), ("leave", 4)):
-            self.every_cut(base, (3, 1, deed), 5)
-        self.every_cut(burn(base, 0), (3, 1, ("join", 4)), 5)
-        self.every_cut(burn(base, 0), (3, 1, ("leave", 0)), 5)
+            self.every_cut(base, (3, 1, deed), 9)
+        self.every_cut(burn(base, 0), (3, 1, ("join", 4)), 9)
+        self.every_cut(burn(base, 0), (3, 1, ("leave", 0)), 9)
         self.every_cut(burn(base, 0), (3, 1, ("leave", 2)), 11)
 
     def test_other_schemes(self):

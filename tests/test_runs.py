@@ -312,7 +312,7 @@ class Rows(Told):
         for at, (scheme, width, used) in enumerate(((SIX, 5, (0, 1, 2, 3, 4)), (SIX, 4, (0, 1, 2, 3, 5)),
                                                     (TIGHT, 5, (0, 1, 2, 3, 4)), (ONES, 7, tuple(range(8))),
                                                     ((31, "letters", 8, 2, 4), 7, tuple(range(7))))):
-            for seed in range(9):
+            for seed in range(6):
                 dice, run = Dice(100 * at + seed), begin(new_cluster(scheme, width, used, 40))
                 plain = Plain(run[0])
                 for _ in range(26):
@@ -329,7 +329,7 @@ class Rows(Told):
                     self.assertIn(meant, plain.may)
                     self.reads(run[0], meant)
         self.assertEqual(len(many), 7)
-        self.assertGreater(min(many.values()), 20)
+        self.assertGreater(min(many.values()), 12)
 
     def reads(self, cluster, meant):
         """Each read of a mended cluster tells what the plain store has."""
