@@ -120,12 +120,17 @@ def numbers_of_room(scheme, lines, pieces):
     return numbers_in(upper, half) + numbers_in(lower, half)
 
 
-def message_on(scheme, lines, pieces):
-    """The message that has these pieces on K shelves; None."""
-    # Of "room" K pieces have as many numbers as a message, so any rows are some message's; of "letters" more.
+def likely_message(scheme, lines, pieces):
+    """The one message that may have these pieces on K shelves; of "letters" it need not have them."""
     if scheme[1] == "room":
         return tuple(numbers_of_room(scheme, lines, pieces))
-    message = tuple(numbers_of_letters(scheme, lines, pieces))
+    return tuple(numbers_of_letters(scheme, lines, pieces))
+
+
+def message_on(scheme, lines, pieces):
+    """The message that has these pieces on K shelves; None."""
+    # Of "letters" K pieces have more numbers than a message, so not all rows are some message's.
+    message = likely_message(scheme, lines, pieces)
     return message if pieces_on(scheme, lines, message) == tuple(pieces) else None
 
 

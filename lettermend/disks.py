@@ -1,12 +1,14 @@
 """Disks of blocks, written one block after the other, and what stands there when the power fails."""
 
-from lettermend.checks import check_cut, is_from, is_tuple_of, is_tuple_within, is_within
+from lettermend.checks import check_cut, is_tuple_of, is_tuple_within, is_whole, is_within
 from lettermend.errors import InvalidBlock, InvalidDisk, InvalidHomes, InvalidPlace, InvalidWrites
 
 
 def is_whole_block(value, most):
     """Whether the value is a block of at most so many numbers that is not torn."""
-    return is_tuple_within(value, 0, most) and all([is_from(number, 0) for number in value])
+    if not isinstance(value, tuple) or len(value) > most:
+        return False
+    return all([is_whole(number) and number >= 0 for number in value])
 
 
 def is_block(value):
@@ -16,7 +18,7 @@ def is_block(value):
 
 def is_disk(value):
     """Whether the value is a disk."""
-    return is_tuple_within(value, 11, 70) and all([is_block(block) for block in value])
+    return is_tuple_within(value, 11, 70) and all([block is None or is_whole_block(block, 90) for block in value])
 
 
 def is_write(value, least, places, most):

@@ -28,7 +28,7 @@ def row_product(prime, left, right):
 
 def row_products(prime, rows, right):
     """The products of each of the rows with another one, a row of them."""
-    return tuple([row_product(prime, row, right) for row in rows])
+    return tuple([sum([one * other for one, other in zip(row, right)]) % prime for row in rows])
 
 
 def is_noughts(row):

@@ -3,7 +3,7 @@
 from lettermend.checks import check_chunk, check_shelf
 from lettermend.clusters import check_cluster, contents_told
 from lettermend.coding import lines_for, pieces_on
-from lettermend.sights import chunks_named, greatest_root, message_and_wrong, meta_lying, pieces_lying
+from lettermend.sights import chunks_named, greatest_root, message_of_chunk, meta_lying, pieces_lying
 from lettermend.sights import seen_or_none
 
 
@@ -25,7 +25,7 @@ def right_holders(cluster, chunk):
     check_cluster(cluster)
     check_chunk(chunk)
     told = contents_told(cluster)
-    found = message_and_wrong(cluster[0], told, chunk)
+    found = message_of_chunk(cluster[0], told, chunk)
     if found is None:
         return ()
     return tuple([pair[0] for pair in pieces_lying(told, chunk) if pair[0] not in found[1]])
@@ -35,7 +35,7 @@ def chunk_message(cluster, chunk):
     """The message of the chunk; None if it is lost."""
     check_cluster(cluster)
     check_chunk(chunk)
-    found = message_and_wrong(cluster[0], contents_told(cluster), chunk)
+    found = message_of_chunk(cluster[0], contents_told(cluster), chunk)
     return None if found is None else found[0]
 
 
@@ -45,7 +45,7 @@ def piece_for(cluster, chunk, shelf):
     check_chunk(chunk)
     scheme = cluster[0]
     check_shelf(shelf, scheme[2])
-    found = message_and_wrong(scheme, contents_told(cluster), chunk)
+    found = message_of_chunk(scheme, contents_told(cluster), chunk)
     return None if found is None else pieces_on(scheme, [lines_for(scheme)[shelf]], found[0])[0]
 
 

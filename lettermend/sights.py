@@ -5,11 +5,11 @@ What is asked of `told` is asked of the contents of all shelves, None for a burn
 
 from lettermend.clustererrors import Lost
 from lettermend.clusters import contents_told
+from lettermend.coding import lines_for
 from lettermend.files import many_for, numbers_from
 from lettermend.packing import meta_in
 from lettermend.placement import placed_among
 from lettermend.rooms import is_room
-from lettermend.shelves import piece_held
 from lettermend.sure import message_among
 
 
@@ -18,19 +18,32 @@ def greatest_root(told):
     return max([blocks[0] for blocks in told if blocks is not None], default=())
 
 
+def pieces_by_chunk(told):
+    """Of each chunk that lies somewhere the pairs of each shelf, ascending, that holds it and its piece."""
+    lying = {}
+    for shelf, blocks in enumerate(told):
+        for block in blocks[1:] if blocks is not None else ():
+            if block:
+                lying.setdefault(block[0], []).append((shelf, block[1:]))
+    return lying
+
+
 def pieces_lying(told, chunk):
     """The pairs of each shelf, ascending, that holds the chunk and its piece."""
-    pairs = [(shelf, piece_held(blocks, chunk)) for shelf, blocks in enumerate(told) if blocks is not None]
-    return [(shelf, piece) for shelf, piece in pairs if piece is not None]
+    return pieces_by_chunk(told).get(chunk, [])
 
 
-def message_and_wrong(scheme, told, chunk):
-    """The pair of the message of the chunk and of the holders that are wrong; None if it is lost."""
-    pairs = pieces_lying(told, chunk)
+def message_and_wrong(scheme, lines, pairs):
+    """The pair of the message of a chunk of which these pieces lie and of the holders that are wrong; None."""
     if len(pairs) < scheme[3]:
         return None
     shelves, pieces = [pair[0] for pair in pairs], [pair[1] for pair in pairs]
-    return message_among(scheme, (len(pairs) - scheme[3]) // 2, shelves, pieces)
+    return message_among(scheme, lines, (len(pairs) - scheme[3]) // 2, shelves, pieces)
+
+
+def message_of_chunk(scheme, told, chunk):
+    """The pair of the message of the chunk and of the holders that are wrong; None if it is lost."""
+    return message_and_wrong(scheme, lines_for(scheme), pieces_lying(told, chunk))
 
 
 def files_in(room):
@@ -81,10 +94,11 @@ def view_from(room, messages):
 class Sight:
     """What is seen of a readable cluster: what all shelves hold, its root, its META and its named chunks."""
 
-    def __init__(self, cluster, told, meta, found):
+    def __init__(self, cluster, told, lying, meta, found):
         self.scheme = cluster[0]
         self.width = cluster[1]
         self.told = told
+        self.lying = lying
         self.root = greatest_root(told)
         self.meta = meta
         # Of each named chunk, ascending, the pair of its message and of the holders that are wrong.
@@ -122,7 +136,7 @@ class Sight:
     def holding(self, chunk):
         """The ascending tuples of the shelves that are right, wrong, lacking and stray for a named chunk."""
         wrong, where = self.found[chunk][1], self.where(chunk)
-        lying = [pair[0] for pair in pieces_lying(self.told, chunk)]
+        lying = [pair[0] for pair in self.lying.get(chunk, [])]
         right = [shelf for shelf in lying if shelf not in wrong]
         lacking = [shelf for shelf in self.standing(where) if shelf not in lying]
         stray = [shelf for shelf in lying if shelf not in where]
@@ -134,9 +148,10 @@ class Sight:
         return (*self.meta[:3], view_from(self.meta[3], messages))
 
 
-def found_among(cluster, told, chunks):
+def found_among(cluster, lying, chunks):
     """Of each of the chunks the pair of its message and of the holders that are wrong; None for a lost one."""
-    return {chunk: message_and_wrong(cluster[0], told, chunk) for chunk in chunks}
+    lines = lines_for(cluster[0])
+    return {chunk: message_and_wrong(cluster[0], lines, lying.get(chunk, [])) for chunk in chunks}
 
 
 def meta_among(cluster, root, found):
@@ -151,23 +166,23 @@ def meta_among(cluster, root, found):
 def meta_lying(cluster, told):
     """(VERSION, USED, MARKS, TREE) as it lies; None."""
     root = greatest_root(told)
-    return meta_among(cluster, root, found_among(cluster, told, root[2:]))
+    return meta_among(cluster, root, found_among(cluster, pieces_by_chunk(told), root[2:]))
 
 
 def seen(cluster):
     """The sight of a readable cluster; otherwise Lost, with None if META is not told, else the least lost chunk."""
     told = contents_told(cluster)
-    root = greatest_root(told)
-    found = found_among(cluster, told, root[2:])
+    root, lying = greatest_root(told), pieces_by_chunk(told)
+    found = found_among(cluster, lying, root[2:])
     meta = meta_among(cluster, root, found)
     if meta is None:
         raise Lost(None)
     chunks = chunks_named(root, meta)
-    found.update(found_among(cluster, told, [chunk for chunk in chunks if chunk not in found]))
+    found.update(found_among(cluster, lying, [chunk for chunk in chunks if chunk not in found]))
     for chunk in chunks:
         if found[chunk] is None:
             raise Lost(chunk)
-    return Sight(cluster, told, meta, {chunk: found[chunk] for chunk in chunks})
+    return Sight(cluster, told, lying, meta, {chunk: found[chunk] for chunk in chunks})
 
 
 def seen_or_none(cluster):

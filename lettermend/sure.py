@@ -2,7 +2,7 @@
 
 from lettermend.checks import check_ascending, check_shelf, check_within
 from lettermend.codes import check_letters, check_pieces
-from lettermend.coding import lines_for, message_on, piece_in, pieces_on, row_behind
+from lettermend.coding import likely_message, lines_for, piece_in, pieces_on, row_behind
 from lettermend.errors import InvalidShelves
 from lettermend.fields import row_products
 from lettermend.lots import lots_of
@@ -21,17 +21,18 @@ def unlike_at(shelves, told, found):
     return tuple([shelf for shelf, one, other in zip(shelves, told, found) if one != other])
 
 
-def message_among(scheme, wrong, shelves, pieces):
-    """The pair of the message of which at most `wrong` of the pieces differ and of the shelves that do; None."""
-    all_lines = lines_for(scheme)
+def message_among(scheme, all_lines, wrong, shelves, pieces):
+    """The pair of the message of which at most `wrong` of the pieces differ and of the shelves that do; None.
+
+    Told are the lines of all shelves of the scheme.
+    """
     lines = [all_lines[shelf] for shelf in shelves]
     # Of K + 2 `wrong` pieces with at most `wrong` wrong ones some K are right, and these alone tell the message.
     for lot in lots_of(len(shelves), scheme[3]):
-        message = message_on(scheme, [lines[at] for at in lot], [pieces[at] for at in lot])
-        if message is not None:
-            unlike = unlike_at(shelves, pieces, pieces_on(scheme, lines, message))
-            if len(unlike) <= wrong:
-                return message, unlike
+        message = likely_message(scheme, [lines[at] for at in lot], [pieces[at] for at in lot])
+        unlike = unlike_at(shelves, pieces, pieces_on(scheme, lines, message))
+        if len(unlike) <= wrong:
+            return message, unlike
     return None
 
 
@@ -53,7 +54,7 @@ def read_sure(scheme, wrong, shelves, pieces):
     check_within(wrong, 0, 4)
     check_at_least(scheme, shelves, scheme[3] + 2 * wrong, None)
     check_pieces(scheme, shelves, pieces)
-    return message_among(scheme, wrong, shelves, pieces)
+    return message_among(scheme, lines_for(scheme), wrong, shelves, pieces)
 
 
 def mend_sure(scheme, wrong, lost, givers, letters):
