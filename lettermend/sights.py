@@ -22,7 +22,8 @@ def pieces_by_chunk(told):
     """Of each chunk that lies somewhere the pairs of each shelf, ascending, that holds it and its piece."""
     lying = {}
     for shelf, blocks in enumerate(told):
-        for block in blocks[1:] if blocks is not None else ():
+        homes = () if blocks is None else blocks[1:]
+        for block in homes:
             if block:
                 lying.setdefault(block[0], []).append((shelf, block[1:]))
     return lying
@@ -107,7 +108,7 @@ class Sight:
 
     def chunks(self):
         """The ascending tuple of the named chunks."""
-        return tuple(list(self.found))
+        return tuple(self.found)
 
     def message(self, chunk):
         """The message of a named chunk."""

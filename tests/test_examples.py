@@ -52,7 +52,7 @@ class Examples(unittest.TestCase):
     def test_readme(self):
         with open(README, encoding="ascii") as file:
             blocks = re.findall(r"```\n(>>> .*?)```", file.read(), re.S)
-        self.assertEqual(len(blocks), 2)
+        self.assertEqual(len(blocks), 4)
         for typed, answered in pairs_of("".join(blocks)):
             with self.subTest(typed=typed):
                 self.assertEqual(answer_to(re.sub(" +# .*", "", typed), self.names), answered)
