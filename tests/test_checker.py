@@ -2,23 +2,24 @@
 
 from lettermend.checker import accepts
 from lettermend.clusters import new_cluster, standing
-from lettermend.codes import pieces_of
+from lettermend.codes import letter, pieces_of
 from lettermend.disks import fresh_disk
+from lettermend.files import cut_up
 from lettermend.journals import batch_steps, contents
 from lettermend.meanings import answer
 from lettermend.mending import mended_cluster, steps_to_mend
 from lettermend.packing import packed
 from lettermend.placement import load, placed, score
+from lettermend.plain import is_ordered
 from lettermend.post import after_events, answers_of, new_post
 from lettermend.reading import chunk_message, meaning, named, piece_for, right_holders
 from lettermend.records import record
 from lettermend.requests import decided_from, request_steps
 from lettermend.surveys import losing_lot, spare
 from lettermend.told import blind, told_of, unmended
-from lettermend.codes import letter
 from tests.claiming import MANY, is_so
 from tests.harming import Dice, burn, full_one, harmed, hide_root, litter, narrow_one, renew, small_bases
-from tests.making import FOUR, SIX, TIGHT, rotten, under_way, with_disk, without_chunk
+from tests.making import FOUR, ONES, SIX, TIGHT, cluster_of, rotten, under_way, with_disk, without_chunk
 from tests.posting import SCRIPTS, SMALL, WIDE, events_for
 from tests.support import ODD, Told, nested
 from tests.test_clusters import BURNT
@@ -267,6 +268,84 @@ class Accepts(Told):
 
 
 class Truths(Told):
+
+    def test_edges_of_parts(self):
+        scores = tuple(shelf * 104729 % 1009 for shelf in (0, 3))
+        lot = tuple(sorted(sorted((0, 3), key=lambda shelf: (shelf * 104729 % 1009, shelf))[:1]))
+        one = (31, "letters", 6, 3, 3), (1, 2, 3, 4, 5, 6)
+        for claim, paper, right in ((("message",) + one + ((), ()), (), False),
+                                    (("message",) + one + ((5,), pieces_of(*one)[5:]), (), True),
+                                    (("too much", 4, 2, 2, 0, 1), (), False), (("too much", 4, 2, 2, 2, 0), (), False),
+                                    (("too much", 2, 1, 1, 1000, 1), (), True), (("too much", 2, 1, 1, 1, 1000), (), True),
+                                    (("placed", 0, (0, 3), 1, lot), scores, False), (("lost", NEW, 0), (), False),
+                                    (("lost", NEW, -1), (), False), (("decides", ROOMS, (0, 4, ("make", ("z",))), None), (),
+                                                                     False),
+                                    (("once", (1, (0, 1, 2), (), ()), 3, (), ()), (), True),
+                                    (("once", (1, (0, 1, 2), (), ()), 4, (), ()), (), False)):
+            self.assertIs(accepts(claim, paper), right, claim)
+            self.assertIs(bool(is_so(claim, paper)), right, claim)
+
+    def test_schemes_of_which_more_mend_than_read(self):
+        tight, ones = new_cluster(TIGHT, 5, (0, 1, 2, 3, 4), 12), new_cluster(ONES, 7, tuple(range(7)), 9)
+        for cluster in (tight, burn(tight, 1), burn(tight, 0, 3), ones, burn(ones, 0, 1, 2, 3, 4, 6), burn(tight, 0, 1, 2)):
+            for chunk in range(1, 6):
+                claim = ("lost", cluster, chunk)
+                self.assertIs(accepts(claim, ()), bool(is_so(claim, ())))
+            if meaning(cluster) is None:
+                continue
+            self.assertIs(accepts(("means", cluster, meaning(cluster)), papers_of(cluster)), True)
+            for many in range(1, len(standing(cluster)) + 1):
+                lot = standing(cluster)[:many]
+                for chunk in named(cluster):
+                    claim = ("loses", cluster, lot)
+                    self.assertIs(accepts(claim, (chunk,)), bool(is_so(claim, (chunk,))))
+            claim, paper = giving(cluster, 1, cluster[0][2] - 1)
+            enough = len(claim[4]) == cluster[0][4]
+            self.assertIs(accepts(claim, paper), enough)
+            self.assertIs(accepts(claim[:4] + (claim[4][:cluster[0][3]], claim[5][:cluster[0][3]]), paper), False)
+
+    def test_roots_and_packings_that_tell_nothing(self):
+        used = (0, 1, 2, 3)
+        right = packed((used, (), ()))
+        for numbers, root, told in ((right, (1, 14, 1, 2, 3), True), (right + (0,) * 6, (1, 14, 1, 2, 3, 4), False),
+                                    (right, (1, 12, 1, 2, 3), False), ((0,) * 14, (1, 14, 1, 2, 3), False),
+                                    (right[:-1] + (1,), (1, 14, 1, 2, 3), False), (right, (), False)):
+            messages = tuple(enumerate(cut_up(FOUR, numbers), start=1))
+            cluster = cluster_of(FOUR, 4, 9, used, root, messages)
+            self.assertIs(meaning(cluster) is not None, told)
+            for paper in (messages, messages[:3], messages[:2], ()):
+                self.assertIs(accepts(("means", cluster, (1, used, (), ())), paper), told and paper == messages)
+
+    def test_a_leave_in_a_run(self):
+        # The width decides what the plain store answers to it.
+        events = (("send", 0), ("bring", 0), ("bring", 0)) * 2
+        for cluster, answers in ((SMALL, ("too few", "too few")), (WIDE, ("too few", "too few")),
+                                 (new_cluster(SIX, 4, (0, 1, 2, 3, 4), 30), ("done", "too few"))):
+            scripts = ((("leave", 0), ("leave", 1)),)
+            self.assertIs(accepts(("answers", cluster, scripts, events, (answers,)), ()), True)
+            self.assertIs(accepts(("order", cluster, scripts, events), ((0, 0, 0, 1, 2), (0, 1, 3, 4, 5))), True)
+
+    def test_what_is_no_order(self):
+        # No run on a new post is such a one, so the look at it is tried by itself.
+        start = (1, (0, 1, 2, 3), (), ())
+        behind = answer(start, 4, (0, 1, ("make", ("a",))))[1]
+        clients = ((0, (("make", ("a",)),), ("done",)), (0, (("read", ("a",)), ("read", ("a",))), (None, None)))
+        rows = ((1, 0, 0, 1, 2), (0, 0, 3, 4, 5), (1, 1, 6, 7, 8))
+        self.assertIs(is_ordered(start, 4, clients, rows, behind), True)
+        self.assertIs(is_ordered(start, 4, clients, rows[1:] + rows[:1], behind), True)
+        for bad in (((0, 0, 4, 4, 5),), ((0, 0, 3, 5, 5),), ((0, 0, 5, 4, 3),), ((0, 0, 3, 5, 4),), ((0, 0, None, 5, 4),),
+                    ()):
+            self.assertIs(is_ordered(start, 4, clients, rows[:1] + bad + rows[2:], behind), False)
+        for row in ((0, 0, None, 4, None), (0, 0, None, 4, 5), (0, 0, 3, 4, None)):
+            self.assertIs(is_ordered(start, 4, clients, (row,), behind), True)
+        for outcome in ("taken", "no such"):
+            self.assertIs(is_ordered(start, 4, ((0, (("make", ("a",)),), (outcome,)),), rows[1:2], behind), False)
+        # A file that is put is found from then on, and no more ahead of it.
+        put = ((0, (("put", ("a",), (5,)),), ("done",)), (0, (("read", ("a",)),), ((5,),)))
+        behind = answer(start, 4, (0, 1, put[0][1][0]))[1]
+        self.assertIs(is_ordered(start, 4, put, ((0, 0, 0, 1, 2), (1, 0, 3, 4, 5)), behind), True)
+        self.assertIs(is_ordered(start, 4, put, ((1, 0, 3, 4, 5), (0, 0, 0, 1, 2)), behind), False)
+        self.assertIs(is_ordered(start, 4, put, ((0, 0, 0, 1, 2),), start), False)
 
     def test_claims_that_exclude_one_another(self):
         # Of the two at most one has a paper.

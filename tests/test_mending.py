@@ -119,6 +119,13 @@ class Phases(Told):
         self.alone(rotten(low, 1, 2, (2, 2, 2)), 3, batch_of(1, (10, (1,) + piece_for(WIDE, 1, 1)))
                    + batch_of(1, (35, (2,) + piece_for(WIDE, 2, 1))))
 
+    def test_4_lacking_and_wrong_ones_of_a_chunk_in_the_order_of_shelves(self):
+        for wrong, lacking in ((4, 1), (1, 4), (6, 0)):
+            cluster = without_chunk(rotten(TALL, wrong, 2, (1, 0, 0)), lacking, 2)
+            first, second = sorted((wrong, lacking))
+            self.alone(cluster, 3, batch_of(first, (11, (2,) + piece_for(TALL, 2, first)))
+                       + batch_of(second, (11, (2,) + piece_for(TALL, 2, second))))
+
     def test_4_a_renewed_shelf(self):
         cluster = renew(burn(WIDE, 3), 3)
         found = phases_of(cluster)

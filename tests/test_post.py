@@ -97,6 +97,7 @@ class Kinds(Told):
         self.index(InvalidEvents, 199, after_events, POST, (one,) * 199 + (("lose",),))
         self.index(InvalidEvents, 0, after_events, POST, one)
         self.assertEqual(after_events(POST, (one,) * 200), POST)
+        self.assertEqual(after_events(POST, ()), POST)
         self.in_order(after_event, (("post", POST, POST[:2], InvalidPost, "given"),
                                     ("event", one, ("lose",), InvalidEvent, "given")))
         self.in_order(after_events, (("post", POST, POST[:2], InvalidPost, "given"),

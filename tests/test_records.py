@@ -90,6 +90,11 @@ class Records(Told):
         events = (("send", 0), ("bring", 1), ("bring", 1), ("bring", 0))
         self.assertEqual(self.same(post, events), ((1, 0, None, None, 3), (0, 0, 0, 1, 2)))
 
+        # Also ahead of what was done in the first event of the run.
+        post = (WIDE, (client_of(0, MAKE_A), client_of(0, READ_A)), (("ask", 0, 0, 1, MAKE_A), ("told", 1, 0, (9,))))
+        self.assertEqual(self.same(post, (("bring", 0), ("bring", 1), ("bring", 0))),
+                         ((1, 0, None, None, 2), (0, 0, None, 0, 1)))
+
     def test_answers_that_come_out_of_order(self):
         # Sent first, done last; the elements ascend by when they were done.
         events = (("send", 0), ("send", 1), ("bring", 1), ("bring", 0), ("bring", 1), ("bring", 0))

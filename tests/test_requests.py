@@ -266,6 +266,41 @@ class Replies(Told):
         self.assertGreater(kept, 3)
         self.assertEqual(seen, {"done", "full"})
 
+    def wants_with_strays(self, base, shelf, at):
+        """How many homes each shelf in use wants when the shelf leaves, told what lies there already."""
+        used, chunks = meaning(base)[1], named(base)
+        behind = tuple(other for other in used if other != shelf)
+        many = len(cut_up(FAR, packed((behind, ((0, 1, "done"),), ()))))
+        new = range(chunks[-1] + 1, chunks[-1] + 1 + many)
+        found = self.wanted(used, behind, chunks, new)
+        found[at] = len({chunk for chunk in chunks} | {chunk for chunk in new if at in placed(chunk, behind, 4)})
+        return found
+
+    def test_full_by_strays_of_one_shelf_alone(self):
+        # Two of the four shelves of each chunk are burnt, so what lies beside them stays, and takes homes.
+        tens, seen = tuple(range(10)), 0
+        many = len(cut_up(FAR, packed((tens, (), ()))))
+        for start in range(60):
+            where = placed(start + 1, tens, 4)
+            alike = [chunk for chunk in range(1, 6000) if placed(chunk, tens, 4) == where]
+            chunks = tuple(alike[:many])
+            base = with_meta(FAR, 4, 30, 3, (tens, (), ()), chunks)
+            for at in [at for at in tens if at not in where]:
+                cluster = base
+                for chunk in chunks:
+                    cluster = stray(cluster, at, chunk)
+                cluster = burn(cluster, *where[:2])
+                self.assertIs(is_mended(cluster), True)
+                wants = self.wants_with_strays(base, where[0], at)
+                if wants[at] > max(homes for other, homes in wants.items() if other != at):
+                    seen += 1
+                    for homes, reply in ((wants[at], "done"), (wants[at] - 1, "full")):
+                        self.assertEqual(self.same(squeezed(cluster, homes), (0, 1, ("leave", where[0])))[0], reply)
+                    break
+            if seen == 4:
+                return
+        self.fail("no such chunks")
+
     def test_full_by_a_long_meta(self):
         seen = set()
         for many, letters in itertools.product((26, 27), (1, 4, 5, 6)):

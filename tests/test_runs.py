@@ -80,6 +80,12 @@ class Kinds(Told):
                 for rots in (0, 1, 2, 10 ** 300):
                     told = 2 * rots + sum(shelf in hurt for shelf in lot)
                     self.assertIs(is_held((WIDE, (lot, hurt, rots))), told <= 2)
+        for cluster, most in ((new_cluster(TIGHT, 5, (0, 1, 2, 3, 4), 20), 2), (new_cluster(ONES, 8, tuple(range(9)), 20), 7),
+                              (new_cluster(ONES, 7, tuple(range(9)), 20), 6), (new_cluster(FOUR, 4, (0, 1, 2, 3), 9), 1)):
+            lot = tuple(range(cluster[0][2]))
+            for many in range(len(lot) + 1):
+                for rots in range(5):
+                    self.assertIs(is_held((cluster, (lot, lot[:many], rots))), many + 2 * rots <= most)
         self.assertIs(self.by_name(is_held, run=RUN), True)
 
     def test_no_events(self):
@@ -87,6 +93,7 @@ class Kinds(Told):
                              ("mend", 1, True), ("Mend",), ("cut", MAKE), ("cut", MAKE, 1), ("cut", MAKE, 1, True, 1),
                              ("cut mend",), ("cut mend", 1), ("cut mend", 1, True, 1), ("burn",), ("burn", 1, 1),
                              ("renew",), ("renew", 0, 0), ("rot", 0, 1), ("rot", 0, 1, (0, 0, 0), 1), ("new", 0),
+                             ("Rot", 0, 1, (0, 0, 0)), ("new", 0, 1, (0, 0, 0)), ("", 0, 1, (0, 0, 0)),
                              ("send", 0), ("", 1), ("request", (0, 0, MAKE[2])), ("request", (8, 1, MAKE[2])),
                              ("request", (0, 1, ("put", ("a",), (31,)))), ("request", (0, 1, ("join", 6))),
                              ("request", (0, 1, ("read", ("a",)))), ("rot", 0, 1, (0, 0)), ("rot", 0, 1, (0, 0, 31)),
@@ -171,6 +178,14 @@ class Events(Told):
             self.same(run, ("rot", 2, held(run[0][2][2])[1], piece))
             for shelf, disk in enumerate(run[0][2]):
                 self.same(run, ("renew" if disk is None else "burn", shelf))
+        lame = renew(burn(WIDE, 1, 3), 1, 3)
+        many = len(steps_to_mend(lame))
+        self.assertEqual(many, 32)
+        for run in ((lame, ((0, 1, 2, 3, 4), (1, 3), 0)), (with_block(lame, 0, 0, None), ((), (), 4))):
+            self.same(run, ("mend",))
+            for count in range(many + 2):
+                for torn in (False, True):
+                    self.same(run, ("cut mend", count, torn))
 
     def test_replies(self):
         replies, run = after_events(RUN, (("request", MAKE), ("cut", (0, 2, ("make", ("y",))), 5, True), ("mend",),
