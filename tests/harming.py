@@ -1,6 +1,6 @@
 """Clusters that came to harm, always the same ones: for the tests of surveys, mending, requests and what follows."""
 
-from lettermend.clusters import cut_steps, done_steps, is_cluster, new_cluster, standing
+from lettermend.clusters import cut_steps, is_cluster, new_cluster, standing
 from lettermend.codes import pieces_of
 from lettermend.disks import fresh_disk
 from lettermend.files import cut_up
@@ -12,7 +12,7 @@ from lettermend.schemes import room_of
 from lettermend.shelves import free_homes, held, home_of
 from tests.making import (FOUR, ONES, ROOMY, SIX, TIGHT, WIDEST, rotten, under_way, with_block, with_disk, with_meta,
                           without_chunk)
-from tests.slow import slow_mending, slow_request
+from tests.slow import slow_mending
 from tests.support import rows_like
 from tests.test_reading import FILES, changes, with_files
 
@@ -39,11 +39,6 @@ class Dice:
 def slow_mended(cluster):
     """The cluster behind its whole mending."""
     return slow_mending(cluster)[1]
-
-
-def slow_done(cluster, request):
-    """The cluster behind a whole request to a mended one."""
-    return done_steps(cluster, slow_request(cluster, request)[1])
 
 
 def burn(cluster, *shelves):

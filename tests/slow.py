@@ -12,7 +12,7 @@ from lettermend.packing import packed
 from lettermend.placement import placed
 from lettermend.reading import (chunk_message, holders, meaning, meta_of, named, piece_for, right_holders, root_of)
 from lettermend.schemes import room_of
-from lettermend.shelves import held, home_of, put_batch, root_batch, shelf_root
+from lettermend.shelves import held, put_batch, root_batch, shelf_root
 from lettermend.errors import Full
 from lettermend.trees import node_at
 
@@ -217,8 +217,3 @@ def slow_request(cluster, request):
 def same_contents(one, other):
     """Whether all shelves have the same contents, whatever their slots hold."""
     return contents_of(one) == contents_of(other)
-
-
-def home_at(cluster, shelf, chunk):
-    """The place of the home of the shelf that holds the chunk; None."""
-    return home_of(cluster[2][shelf], chunk)

@@ -7,7 +7,7 @@ from lettermend.clusters import cut_steps, done_steps, new_cluster
 from lettermend.errors import Full, NotHeld, NotMended, StoreError
 from lettermend.harm import burnt, renewed, rotten
 from lettermend.meanings import mark_of
-from lettermend.mending import is_mended, steps_to_mend
+from lettermend.mending import steps_to_mend
 from lettermend.reading import meaning
 from lettermend.requests import read, request_steps
 from lettermend.shelves import held, piece_of, shelf_root
@@ -181,8 +181,3 @@ def slow_line(state, line):
     if kind == "look":
         return state, slow_look(state)
     return state, str(spare(state)) if meaning(state) else "lost"
-
-
-def is_quiet_store(state):
-    """Whether there is a store and it is mended."""
-    return state != () and is_mended(state)

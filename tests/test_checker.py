@@ -545,4 +545,3 @@ class Truths(Told):
         self.assertIs(accepts(("unmended", lame), steps_to_mend(lame)[0]), True)
         for step in steps_to_mend(lame)[1:4]:
             self.assertIs(accepts(("unmended", lame), step), False)
-        self.assertEqual(SIX, WIDE[0])

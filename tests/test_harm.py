@@ -1,7 +1,7 @@
 """Burning, renewing and rot: point 41 and the heading lettermend/harm.py."""
 
 from lettermend.clustererrors import InvalidCluster, NotStanding, Standing
-from lettermend.clusters import is_cluster, new_cluster, standing
+from lettermend.clusters import is_cluster, standing
 from lettermend.errors import InvalidChunk, InvalidPiece, InvalidShelf, NotHeld, NotMended
 from lettermend.harm import burnt, renewed, rotten
 from lettermend.journals import contents
@@ -9,7 +9,7 @@ from lettermend.reading import holders, meaning
 from lettermend.schemes import room_of
 from lettermend.shelves import held, piece_of, shelf_root
 from tests.harming import burn, cut_batch, large_bases, small_bases
-from tests.making import SIX, place_of, under_way, with_block, with_disk
+from tests.making import place_of, under_way, with_block, with_disk
 from tests.support import ODD, Told, rows_like
 from tests.test_clusters import BURNT, CLUSTERS, LAME, NEW, NO_CLUSTERS
 
@@ -151,4 +151,3 @@ class Wrong(Told):
                                      ("shelf", 0, -1, InvalidShelf, "given")))
         self.given(InvalidChunk, 0, rotten, LAME, 2, 0, (0, 0, 0))
         self.given(InvalidPiece, (), rotten, LAME, 2, 1, ())
-        self.assertEqual(SIX, LAME[0])

@@ -14,12 +14,12 @@ from lettermend.schemes import room_of
 from lettermend.shelves import held
 from lettermend.trees import node_at, paths_of
 from tests.harming import Dice, burn, full_one, harmed, hide_root, large_bases, litter, renew, small_bases
-from tests.making import FOUR, ONES, SIX, TIGHT, rotten as spoilt, under_way, with_block, with_disk, without_chunk
+from tests.making import FOUR, ONES, SIX, TIGHT, rotten as spoilt, under_way, with_block, with_disk
 from tests.slow import slow_lost, slow_mending, slow_survey
 from tests.support import ODD, Told, rows_like
 from tests.test_clusters import BURNT, NEW, NO_CLUSTERS
 from tests.test_histories import WRONG_COUNTS, WRONG_TORN
-from tests.test_requests import FILES, ROOMS, WIDE
+from tests.test_requests import ROOMS, WIDE
 
 MAKE = (0, 1, ("make", ("x",)))
 JOIN = (0, 1, ("join", 5))
@@ -393,4 +393,3 @@ class Rows(Told):
             self.assertIsNone(meaning(lost))
         for kept in (burn(WIDE, 0, 1), spoilt(WIDE, 1, chunk, (1, 0, 0)), renew(burn(WIDE, 0, 1), 0, 1)):
             self.assertEqual(meaning(kept), meaning(WIDE))
-        self.assertEqual(FOUR, NEW[0])
